@@ -1,0 +1,1 @@
+"""Squares one more, or one less, than so many times another square."""
